@@ -1,0 +1,1 @@
+"""Tryback: search codes that take back behind a try."""
