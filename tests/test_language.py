@@ -147,6 +147,54 @@ class Language(unittest.TestCase):
                 self.assertFalse(re.match("^__.*__$", node.value), place)
             self.assertNotIsInstance(node.value, (float, complex), place)
 
+    def test_is(self):
+        for place, node in self.nodes(ast.Compare):
+            for sign, right in zip(node.ops, node.comparators):
+                if isinstance(sign, (ast.Is, ast.IsNot)):
+                    self.assertTrue(isinstance(right, ast.Constant) and right.value in (None, True, False), place)
+
+    def test_classes_with_items_are_not_iterated_over(self):
+        for place, node in self.nodes(ast.ClassDef):
+            methods = {one.name: one for one in node.body if isinstance(one, ast.FunctionDef)}
+            if "__getitem__" in methods:
+                self.assertEqual([isinstance(one, ast.Raise) for one in methods["__iter__"].body], [True], place)
+        for place, node in self.nodes(ast.Call):
+            # Classes of the package have a __getitem__.
+            if isinstance(node.func, ast.Name) and node.func.id == "reversed":
+                inner = node.args[0]
+                self.assertTrue(isinstance(inner, ast.Call) and inner.func.id in ("list", "tuple", "sorted", "range"), place)
+
+    def test_names_of_attributes_and_methods(self):
+        barred = set("items keys values pop update append clear extend insert remove reverse setdefault sort args encode"
+                     " decode hex fromhex format".split())
+        for place, node in self.nodes(ast.ClassDef):
+            inner = [one for one in ast.walk(node) if isinstance(one, ast.Attribute) and isinstance(one.ctx, ast.Store)]
+            attributes = {one.attr for one in inner if isinstance(one.value, ast.Name) and one.value.id == "self"}
+            methods = [one.name for one in node.body if isinstance(one, ast.FunctionDef)]
+            self.assertEqual(len(methods), len(set(methods)), place)
+            self.assertFalse(attributes & set(methods), place)
+            self.assertFalse(attributes & barred, place)
+            self.assertFalse(set(methods) & {"keys", *vars(builtins)}, place)
+
+    def test_names_of_imports_and_classes_are_not_used_again(self):
+        for name, tree in trees():
+            taken = {one.name for one in tree.body if isinstance(one, ast.ClassDef)}
+            taken |= {alias.name for one in tree.body if isinstance(one, ast.ImportFrom) for alias in one.names}
+            for node in ast.walk(tree):
+                if isinstance(node, ast.Name) and isinstance(node.ctx, ast.Store):
+                    self.assertNotIn(node.id, taken, (name, node.lineno))
+                if isinstance(node, ast.arg):
+                    self.assertNotIn(node.arg, taken, (name, node.lineno))
+
+    def test_no_two_files_import_from_each_other(self):
+        imports = {name[:-3]: {node.module[8:] for node in tree.body
+                               if isinstance(node, ast.ImportFrom) and node.module.startswith("tryback.")}
+                   for name, tree in trees()}
+        while imports:
+            free = [name for name in imports if not imports[name] & set(imports)]
+            self.assertNotEqual(free, [], imports)
+            imports = {name: imports[name] for name in imports if name not in free}
+
     def test_any_and_all_take_lists(self):
         # Classes of the package have an __eq__.
         for place, node in self.nodes(ast.Call):

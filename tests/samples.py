@@ -1,0 +1,305 @@
+"""What several tests share: random codes and puzzles, and an execution of codes that is written in another way.
+
+The execution here is recursive and leaves blocks by exceptions; it asks two functions for bits and children.
+"""
+
+from tryback.codes import Code, Function
+from tryback.puzzles import Puzzle
+
+MAY = ("may",)
+
+
+def code(body, other=(), cells=("a", "b"), rows=("r", "s"), third=None):
+    """A code with the functions f and g, and h if a third body is given."""
+    functions = [Function("f", body), Function("g", other)]
+    if third is not None:
+        functions.append(Function("h", third))
+    return Code(cells, rows, functions, "f")
+
+
+def random_part(dice, room, depth=0, around=()):
+    """A part with statements of all kinds; room counts down how many may still be made."""
+    part = []
+    for _ in range(dice.randrange(5)):
+        if room[0] == 0:
+            break
+        room[0] -= 1
+        part.append(random_statement(dice, room, depth, around))
+    return part
+
+
+def random_statement(dice, room, depth, around):
+    changes = [(word, name) for word in ("put", "blank", "give") for name in "ab"]
+    changes += [(word, name) for word in ("push", "pop", "cut") for name in "rs"]
+    if "lastly" in around:
+        return dice.choice(changes)
+    plain = changes + [("deeper", "f"), ("deeper", "g")] * 4 + [("answer", "copy"), ("answer", "view")] * 2
+    plain += [("stop", "found"), ("stop", "none"), ("fault",), MAY, MAY]
+    if "tries" in around:
+        plain += [("again",), ("out",)] * 2
+    words = ["either", "tries", "tries", "told", "look", "guard", "lastly"]
+    if depth == 3 or dice.randrange(3) > 0:
+        return dice.choice(plain)
+    word = dice.choice(words)
+    first = random_part(dice, room, depth + 1, (*around, word) if word == "tries" else around)
+    if word == "tries":
+        return (word, first)
+    second = random_part(dice, room, depth + 1, (*around, word) if word == "lastly" else around)
+    return ("look", dice.choice("ab"), first, second) if word == "look" else (word, first, second)
+
+
+def random_code(dice):
+    return code(random_part(dice, [14]), random_part(dice, [14]))
+
+
+def random_puzzle(dice, levels=4):
+    bits = [dice.randrange(2) for _ in range(dice.choice([0, 0, 1, 2, 3, 5, 8]))]
+    many = dice.randrange(4) if levels > 1 else 0
+    return Puzzle(bits, [random_puzzle(dice, levels - 1) if dice.randrange(4) else None for _ in range(many)])
+
+
+class Pause(Exception):
+    """There is no answer yet."""
+
+
+class Refuted(Exception):
+    """The trace is another one."""
+
+
+class Signal(Exception):
+    """Leaves blocks, up to the goal that it tells."""
+
+
+class Me:
+    """A visit in execution."""
+
+    def __init__(self, path, function, cells, rows):
+        self.path, self.function, self.cells, self.rows = path, function, cells, rows
+        self.turn = self.calls = 0
+        self.last = None
+        self.reading = []
+
+
+class Execution:
+    """A code that is executed with bits from ask_bit(here, me, word) and children from ask_child(here, me, function)."""
+
+    def __init__(self, made, ask_bit, ask_child, expected=None):
+        self.made, self.ask_bit, self.ask_child, self.expected = made, ask_bit, ask_child, expected
+        self.cells = {name: None for name in made.cells}
+        self.rows = {name: [] for name in made.rows}
+        self.trace, self.visits, self.answers, self.under_way, self.readings = [], [], [], [], {}
+        self.way = None
+        try:
+            self.way = self.visit(made.start, ())
+        except Pause:
+            pass
+
+    def contents(self):
+        return tuple(self.cells.values()), tuple(tuple(row) for row in self.rows.values())
+
+    def note(self, pair):
+        self.trace.append(pair)
+        at = len(self.trace)
+        if self.expected is not None and tuple(self.expected[at - 1:at]) != (pair,):
+            raise Refuted()
+
+    def visit(self, function, path):
+        me = Me(path, function, dict(self.cells), {name: list(row) for name, row in self.rows.items()})
+        record = {"path": path, "function": function, "in": self.contents(), "way": None, "out": (None, None)}
+        self.visits.append(record)
+        self.under_way.append(me)
+        self.readings[path] = me.reading
+        self.note(("enter", function))
+        way = "none"
+        try:
+            self.execute(self.made.named(function).body, me)
+        except Signal as signal:
+            way = signal.args[0]
+        record["way"], record["out"] = way, self.contents()
+        self.under_way.pop()
+        self.note(("leave", way))
+        return way
+
+    def execute(self, part, me):
+        for statement in part:
+            word, *rest = statement
+            getattr(self, f"do_{word}", self.change)(me, *rest, **({"word": word} if len(rest) == 1 else {}))
+
+    def bit(self, me, word):
+        bit = self.ask_bit(self, me, word)
+        me.reading.append(bit)
+        return bit
+
+    def change(self, me, name, word):
+        row = self.rows.get(name)
+        if word == "put":
+            self.cells[name] = (me.path, me.turn)
+        elif word == "blank":
+            self.cells[name] = None
+        elif word == "give":
+            self.cells[name] = me.cells[name]
+        elif word == "push":
+            row.append((me.path, me.turn))
+        elif word == "pop":
+            del row[-1:]
+        else:
+            while len(row) > len(me.rows[name]):
+                row.pop()
+        self.note((word, name))
+
+    def do_answer(self, me, how, word):
+        self.answers.append((how, me.path, self.contents()))
+        self.note((word, how))
+
+    def do_deeper(self, me, function, word):
+        child = self.ask_child(self, me, function)
+        path = me.path + (me.calls,)
+        me.calls += 1
+        if child:
+            me.last = self.visit(function, path)
+        else:
+            me.last = "none"
+            self.note(("miss", function))
+        if me.last == "fault":
+            raise Signal("fault")
+
+    def do_stop(self, me, way, word):
+        raise Signal(way)
+
+    def do_fault(self, me):
+        raise Signal("fault")
+
+    def do_again(self, me):
+        raise Signal("again")
+
+    def do_out(self, me):
+        raise Signal("out")
+
+    def do_may(self, me):
+        if self.bit(me, "may"):
+            raise Signal("fault")
+
+    def do_either(self, me, first, second):
+        self.execute(first if self.bit(me, "either") else second, me)
+
+    def do_told(self, me, first, second):
+        self.execute(first if me.last == "found" else second, me)
+
+    def do_look(self, me, cell, first, second):
+        self.execute(second if self.cells[cell] is None else first, me)
+
+    def do_tries(self, me, first, word):
+        while self.bit(me, "tries"):
+            me.turn += 1
+            try:
+                self.execute(first, me)
+            except Signal as signal:
+                if signal.args[0] == "out":
+                    return
+                if signal.args[0] != "again":
+                    raise
+
+    def do_guard(self, me, first, second):
+        try:
+            self.execute(first, me)
+        except Signal as signal:
+            if signal.args[0] != "fault":
+                raise
+        else:
+            return
+        self.execute(second, me)
+
+    def do_lastly(self, me, first, second):
+        signal = None
+        try:
+            self.execute(first, me)
+        except Signal as told:
+            signal = told
+        self.execute(second, me)
+        if signal is not None:
+            raise signal
+
+    def told(self):
+        """All that a Run tells, as lists and tuples."""
+        cells, rows = self.contents()
+        answers = [(how, path, *(then if how == "copy" else (cells, rows)), *then,
+                    how == "view" and then != (cells, rows)) for how, path, then in self.answers]
+        visits = [(one["path"], one["function"], one["way"], *one["in"], *one["out"],
+                   None if one["way"] is None else one["in"] == one["out"]) for one in self.visits]
+        return [self.way, cells, rows, answers, visits, tuple(self.trace)]
+
+
+def told_of(done):
+    """The same for a Run."""
+    answers = [(one.how, one.path, one.cells, one.rows, one.told_cells, one.told_rows, one.spoiled)
+               for one in done.answers]
+    visits = [(one.path, one.function, one.way, one.cells_in, one.rows_in, one.cells_out, one.rows_out, one.restored)
+              for one in done.visits]
+    return [done.way, done.cells, done.rows, answers, visits, done.trace]
+
+
+def executed(made, puzzle):
+    """The execution of a code on a puzzle."""
+    def ask_bit(here, me, word):
+        return (node_at(puzzle, me.path).bits + (0,) * (len(me.reading) + 1))[len(me.reading)]
+
+    def ask_child(here, me, function):
+        return (node_at(puzzle, me.path).children + (None,) * (me.calls + 1))[me.calls] is not None
+
+    return Execution(made, ask_bit, ask_child)
+
+
+def node_at(puzzle, path):
+    for number in path:
+        puzzle = puzzle.children[number]
+    return puzzle
+
+
+def answered(made, answers):
+    """The execution of a code with these answers, up to the question behind them, and this question or None."""
+    left = list(answers)
+    due = []
+
+    def answer(word, me, function):
+        if not left:
+            due.append((word, me.path, function))
+            raise Pause()
+        return left.pop(0)
+
+    done = Execution(made, lambda here, me, word: answer(word, me, me.function),
+                     lambda here, me, function: answer("deeper", me, function))
+    return done, due[0] if due else None
+
+
+def readings_of(made, trace, most):
+    """For each path all readings of executions that have this trace and use at most this many bits altogether."""
+    found = {}
+    waiting = [()]
+    while waiting:
+        bits = waiting.pop()
+        done = traced(made, list(trace), list(bits))
+        if done is None:
+            continue
+        if done.way is None:
+            waiting.extend([(*bits, bit) for bit in (0, 1)] if len(bits) < most else [])
+        elif len(done.trace) == len(trace):
+            for path, reading in done.readings.items():
+                found.setdefault(path, set()).add(tuple(reading))
+    return found
+
+
+def traced(made, trace, bits):
+    """The execution of a code with these bits and with the children that a trace tells; None if it refutes the trace."""
+    def ask_bit(here, me, word):
+        if not bits:
+            raise Pause()
+        return bits.pop(0)
+
+    def ask_child(here, me, function):
+        at = len(here.trace)
+        return trace[at:at + 1] == [("enter", function)]
+
+    try:
+        return Execution(made, ask_bit, ask_child, trace)
+    except Refuted:
+        return None
