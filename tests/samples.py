@@ -1,6 +1,7 @@
 """What several tests share: random codes and puzzles, and an execution of codes that is written in another way.
 
-The execution here is recursive and leaves blocks by exceptions; it asks two functions for bits and children.
+The execution here is recursive and leaves blocks by exceptions; it asks two functions for bits and children. What is
+promised for all puzzles at once is compared with many executions of one code.
 """
 
 from tryback.codes import Code, Function
@@ -50,6 +51,70 @@ def random_statement(dice, room, depth, around):
 
 def random_code(dice):
     return code(random_part(dice, [14]), random_part(dice, [14]))
+
+
+def dense_part(dice, room, depth, around, names):
+    """A part with up to this many statements, few of which leave it; names are those of cells, rows and functions."""
+    part = []
+    while room > 0 and not (depth and part and dice.random() < 0.3):
+        statement = dense_statement(dice, room, depth, around, names)
+        part.append(statement)
+        room -= many_in([statement])
+    return part
+
+
+def dense_statement(dice, room, depth, around, names):
+    cells, rows, functions, answers, row_words = names
+    changes = [(word, name) for word in ("put", "blank", "give") for name in cells]
+    changes += [(word, name) for word in row_words for name in rows]
+    if "lastly" in around:
+        return dice.choice(changes)
+    if depth < 3 and room > 1 and dice.random() < 0.4:
+        words = ["either", "tries", "tries", "told", "guard"] + ["look"] * (len(cells) > 0)
+        word = dice.choice(words + ["lastly"] * (len(changes) > 0))
+        first = dense_part(dice, dice.randint(0, room - 1), depth + 1, (*around, word) if word == "tries" else around, names)
+        if word == "tries":
+            return (word, first)
+        left = min(4, room - 1 - many_in(first))
+        inside = (*around, word) if word == "lastly" else around
+        second = dense_part(dice, dice.randint(0, left), depth + 1, inside, names)
+        return ("look", dice.choice(cells), first, second) if word == "look" else (word, first, second)
+    if changes and dice.random() < 0.45:
+        return dice.choice(changes)
+    plain = [("deeper", name) for name in functions] * 4 + [MAY, MAY]
+    plain += [("answer", "copy"), ("answer", "view")] * answers
+    if depth > 0 and dice.random() < 0.5:
+        plain += [("stop", "found"), ("stop", "none"), ("fault",)]
+    if "tries" in around:
+        plain += [("again",), ("out",)]
+    return dice.choice(plain)
+
+
+def many_in(part):
+    """The number of statements in the part."""
+    return sum(1 + sum(many_in(entry) for entry in statement[1:] if not isinstance(entry, str)) for statement in part)
+
+
+def dense_code(dice, most=14):
+    """A code with up to three functions that do much."""
+    cells, rows, functions = "abc"[:dice.randrange(4)], "rs"[:dice.randrange(3)], "fgh"[:dice.choice([1, 2, 2, 3])]
+    names = (cells or "a", rows, functions, 1, ("push", "pop", "cut"))
+    made = [Function(name, dense_part(dice, dice.randint(2, most), 0, (), names)) for name in functions]
+    return Code(cells or "a", rows, made, "f")
+
+
+def clean_code(dice, most=12):
+    """A code whose functions give all things back lastly."""
+    cells, rows, functions = "abc"[:dice.choice([1, 1, 2, 3])], "rs"[:dice.choice([0, 0, 1, 2])], "fgh"[:dice.choice([1, 2, 2, 3])]
+    names = (cells, rows, functions, 3, ("push", "cut"))
+    back = [("give", name) for name in cells] + [("cut", name) for name in rows]
+    made = []
+    for name in functions:
+        wanted, part = dice.randint(3, most - len(back)), []
+        while many_in(part) < wanted:
+            part = dense_part(dice, wanted, 1, (), names)
+        made.append(Function(name, [("lastly", part, back)]))
+    return Code(cells, rows, made, "f")
 
 
 def random_puzzle(dice, levels=4):
@@ -303,3 +368,96 @@ def traced(made, trace, bits):
         return Execution(made, ask_bit, ask_child, trace)
     except Refuted:
         return None
+
+
+def executions(made, most, cap, started=Execution):
+    """Up to cap executions of a code, with answers that are 1 in all ways within the first ones and 0 behind these."""
+    found = []
+    waiting = [()]
+    while waiting and len(found) < cap:
+        answers = waiting.pop()
+        asked = []
+
+        def answer(*_):
+            asked.append(len(asked))
+            return (answers + (0,) * len(asked))[len(asked) - 1]
+
+        found.append(started(made, answer, answer))
+        for at in range(len(answers), min(len(asked), most)):
+            waiting.append(answers + (0,) * (at - len(answers)) + (1,))
+    return found
+
+
+def not_kept(made, visit):
+    """The things that a visit of an execution does not keep."""
+    names = [*made.cells, *made.rows]
+    before, behind = [[*visit[side][0], *visit[side][1]] for side in ("in", "out")]
+    return [name for name, held, holds in zip(names, before, behind) if held != holds]
+
+
+def in_order_of_ends(visits):
+    """The visits of an execution in the order in which they end."""
+    return sorted(visits, key=lambda visit: [*visit["path"], float("inf")])
+
+
+def size_of(done, path):
+    """The number of the nodes that an execution uses from this path on."""
+    return len([visit for visit in done.visits if visit["path"][:len(path)] == path])
+
+
+def required(name, times):
+    """Statements behind which the last call came back with found only if so many calls of the function have done so."""
+    return [("deeper", name)] + [("told", [("deeper", name)], [])] * (times - 1)
+
+
+# Counts the cells a and b down, as the digits of a number, and comes back with found from 2 ** (n + 1) - 1 visits.
+COUNTDOWN = [("lastly", [("look", "a", [("blank", "a")], [("look", "b", [("blank", "b"), ("put", "a")], [("stop", "found")])]),
+                         *required("h", 2), ("told", [("stop", "found")], [])], [("give", "a"), ("give", "b")])]
+
+
+def great_code(last, times=6, rows=()):
+    """A code that comes to its last statement only from 1 + times * 91 visits."""
+    middle = [("put", "b"), *required("h", 6), ("told", [("stop", "found")], [])]
+    functions = [Function("f", [("put", "a"), *required("g", times), ("told", [last], [])]),
+                 Function("g", middle), Function("h", COUNTDOWN)]
+    return Code(["a", "b", "c"], rows, functions, "f")
+
+
+def large_code(back=True, how="view"):
+    """A code as large as codes can be, with both rows and all cells in use; it is clean if all is given back."""
+    functions = []
+    for name, after, (first, second, third) in [("f", "g", "abc"), ("g", "h", "bca"), ("h", "f", "cab")]:
+        rounds = [("either", [("either", [("push", "r")], [("put", first)])],
+                   [("either", [("push", "s")], [("deeper", after)])])]
+        last = [("cut", "r"), ("give", first), ("give", second), ("cut", "s") if back else ("pop", "s")]
+        answer = ("answer", how if name == "h" else "copy")
+        functions.append(Function(name, [("tries", rounds), ("look", third, [answer], []), *last]))
+    return Code(["a", "b", "c"], ["r", "s"], functions, "f")
+
+
+class Plain:
+    """What an Execution needs of a code; it may be greater than a code."""
+
+    def __init__(self, cells, rows, functions, start):
+        self.cells, self.rows, self.functions, self.start = cells, rows, functions, start
+
+    def named(self, name):
+        return [function for function in self.functions if function.name == name][0]
+
+
+def executed_with_flags(made, function, flags, puzzle):
+    """The execution of a visit that calls the function, as its only child, with the cells blank as the flags tell."""
+    puts = [("put", name) for name, flag in zip(made.cells, flags) if not flag]
+    first = Function("first", [*puts, ("guard", [("deeper", function)], [])])
+    return executed(Plain(made.cells, made.rows, [first, *made.functions], "first"), Puzzle([], [puzzle]))
+
+
+def flags_of(visit):
+    """The flags of a visit of an execution."""
+    return tuple(worth is None for worth in visit["in"][0])
+
+
+def how_of(visit):
+    """What a visit of an execution does to each cell."""
+    return tuple("kept" if held == holds else "blanked" if holds is None else "changed"
+                 for held, holds in zip(visit["in"][0], visit["out"][0]))

@@ -52,6 +52,8 @@ class Machine:
         self.ended = []
         # Tuples: copy or view, the number of the visit, and the contents of the cells and of the rows.
         self.answers = []
+        # Tuples: the number of the visit that looks, whether the cell is filled, and how many answers came before.
+        self.looks = []
         self.trace = []
         # Pairs: the number of the visit, and the bit or the number of the called visit (None without a child).
         self.bits_used = []
@@ -144,7 +146,9 @@ class Machine:
         elif step[0] == "told":
             frame.at = step[1] if frame.last == "found" else step[2]
         elif step[0] == "look":
-            frame.at = step[3] if self.cells[step[1]] is None else step[2]
+            filled = self.cells[step[1]] is not None
+            self.looks.append((frame.number, filled, len(self.answers)))
+            frame.at = step[2] if filled else step[3]
         else:
             self.leave(step[1])
 
@@ -177,7 +181,7 @@ class Machine:
 
     def logs(self):
         """The lists of what has happened."""
-        return [self.begun, self.ended, self.answers, self.trace, self.bits_used, self.calls_made]
+        return [self.begun, self.ended, self.answers, self.looks, self.trace, self.bits_used, self.calls_made]
 
     def mark(self):
         """What is needed to come back to this place, once."""

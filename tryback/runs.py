@@ -49,6 +49,11 @@ class Run:
 
 def run(code, puzzle):
     """The run of the code on the puzzle."""
+    return run_of(executed(code, puzzle))
+
+
+def executed(code, puzzle):
+    """The machine that has executed the code on the puzzle."""
     machine = Machine(code)
     # The nodes of the visits, by the numbers of these.
     nodes = [puzzle]
@@ -62,7 +67,7 @@ def run(code, puzzle):
             machine.answer(0 if child is None else 1)
         else:
             machine.answer(entry_at(node.bits, frame.bits, 0))
-    return run_of(machine)
+    return machine
 
 
 def entry_at(entries, at, otherwise):
