@@ -461,3 +461,59 @@ def how_of(visit):
     """What a visit of an execution does to each cell."""
     return tuple("kept" if held == holds else "blanked" if holds is None else "changed"
                  for held, holds in zip(visit["in"][0], visit["out"][0]))
+
+
+def text_ways(part, most, faulting=(), path=(), at=0):
+    """All ways through a part from one of its spots on, with at most so many spots, as pairs.
+
+    A pair is the tuple of the spots, each with its statement (None behind the last one), and how the part ends.
+    """
+    if most <= 0:
+        return []
+    spot = (*path, at)
+    if at == len(part):
+        return [(((spot, None),), "on")]
+    found = []
+    for inside, end in ways_inside(part[at], most - 1, faulting, spot):
+        passed = ((spot, part[at]), *inside)
+        if end != "on":
+            found.append((passed, end))
+        else:
+            found += [(passed + rest, how) for rest, how in text_ways(part, most - len(passed), faulting, path, at + 1)]
+    return found
+
+
+def ways_inside(statement, most, faulting, spot):
+    """All ways from a statement on to what comes behind it, or out of it."""
+    word = statement[0]
+    parts = [text_ways(entry, most, faulting, (*spot, number))
+             for number, entry in enumerate([entry for entry in statement if not isinstance(entry, str)])]
+    if word in ("either", "told", "look"):
+        return parts[0] + parts[1]
+    if word in ("fault", "again", "out"):
+        return [((), word)]
+    if word == "stop":
+        return [((), statement[1])]
+    if word == "may" or (word == "deeper" and statement[1] in faulting):
+        return [((), "on"), ((), "fault")]
+    if word == "tries":
+        found = [((), "on")]
+        for inside, end in parts[0]:
+            if end in ("on", "again"):
+                found += [(inside + rest, how) for rest, how in ways_inside(statement, most - len(inside), faulting, spot)]
+            else:
+                found.append((inside, "on" if end == "out" else end))
+        return found
+    if word in ("guard", "lastly"):
+        found = [way for way in parts[0] if word == "guard" and way[1] != "fault"]
+        for inside, end in parts[0]:
+            if word == "lastly" or end == "fault":
+                for rest, how in text_ways(statement[2], most - len(inside), faulting, (*spot, 1)):
+                    found.append((inside + rest, end if word == "lastly" else how))
+        return found
+    return [((), "on")]
+
+
+def ways_through(body, most, faulting=()):
+    """All ways through a body with at most so many spots: pairs of their spots with statements, and their ways out."""
+    return [(passed, "none" if end == "on" else end) for passed, end in text_ways(body, most, faulting)]
