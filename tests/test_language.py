@@ -29,6 +29,23 @@ BARRED = set("""typing typing_extensions enum Enum IntEnum StrEnum Flag IntFlag 
 NOWHERE = {"register", "mro", "elements", "open", "input", "law", "version_info", "with_traceback", "add_note"}
 
 
+# The functions of the interface by their files, and its classes with their methods and properties.
+FUNCTIONS = {
+    "texts": "written read_code", "puzzles": "read_puzzle", "runs": "run", "traces": "maker another makers",
+    "tables": "maps", "keeping": "keeps keeps_cell broken", "views": "spoiled", "alike": "alike",
+    "ways": "spots_of faulting", "heights": "heights", "mending": "allowed mending least_sets mended needless",
+}
+CLASSES = {
+    "codes": {"Function": "", "Code": "named"},
+    "puzzles": {"Puzzle": "paths before with_bits with_child __contains__ __getitem__ __eq__"},
+    "runs": {"Run": "", "Answer": "spoiled", "Visit": "restored"},
+    "desks": {"Desk": "due say undo redo report so_far answers_given left_open"},
+    "tables": {"Maps": "outs puzzle_for"}, "keeping": {"Break": ""}, "views": {"Spoiled": ""}, "alike": {"Unlike": ""},
+    "heights": {"Heights": ""}, "mending": {"Mending": ""},
+    "logs": {"Log": "change now undone restores least orders"},
+}
+
+
 def files():
     return [(path.name, path.read_bytes()) for path in sorted(FOLDER.glob("*.py"))]
 
@@ -71,6 +88,23 @@ class Files(unittest.TestCase):
             for node in ast.walk(tree):
                 if isinstance(node, ast.FunctionDef):
                     self.assertLessEqual(node.end_lineno - node.lineno + 1, 40, (name, node.name))
+
+
+class Interface(unittest.TestCase):
+    def defined(self, file, kind):
+        tree = ast.parse((FOLDER / f"{file}.py").read_text())
+        return {node.name: node for node in tree.body if isinstance(node, kind)}
+
+    def test_functions_are_defined_in_their_files(self):
+        for file, names in FUNCTIONS.items():
+            self.assertLessEqual(set(names.split()), set(self.defined(file, ast.FunctionDef)), file)
+
+    def test_methods_are_defined_in_their_classes(self):
+        for file, classes in CLASSES.items():
+            found = self.defined(file, ast.ClassDef)
+            for name, methods in classes.items():
+                own = {one.name for one in found[name].body if isinstance(one, ast.FunctionDef)}
+                self.assertLessEqual({"__init__", *methods.split()}, own, name)
 
 
 class Language(unittest.TestCase):
